@@ -1,0 +1,1 @@
+"""Onlyjoins: tells whether rules that call themselves ever needed their calls."""
