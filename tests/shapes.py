@@ -43,6 +43,20 @@ def odd_values():
     ]
 
 
+def no_unfoldings():
+    """Values that no rules have as an unfolding."""
+    great = 10 ** 999
+    deep = (0, 0)
+    for _ in range(200):
+        deep = (deep, 0)
+    return [value for value in odd_values() if not isinstance(value, tuple)] + [
+        (), ((),), ((0,),), ((0,), 0), (0, (0,)), [0], [0, 0], (0, [0]), ([0], 0), "0", "00", ("0",), ("0", 0),
+        (0, "0"), b"\x00", (b"\x00",), (None,), (None, 0), (0, None), (True,), (False,), (False, 0), (0, False),
+        (True, 0), (0, True), (-1,), (0, -1), (-1, 0), (great,), (0, great), (great, 0), (-great,), (0, -great),
+        {0: 0}, {0}, range(1), deep, (0,) * 30000, (0,) * 29999 + (None,), (None,) + (0,) * 29999,
+    ]
+
+
 def chain(levels, word="e", marks=(), bottom=LEAF):
     """A tree with one node at each level down to the bottom."""
     tree = bottom

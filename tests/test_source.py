@@ -10,6 +10,10 @@ INTERFACE = {
                "Needed", "TooMany"],
     "trees": ["is_tree", "is_body", "fits_root"],
     "rules": ["Rules"],
+    "unfold": ["is_unfolding", "tree_of", "depth_of", "earliest", "fewest", "shorter"],
+    "views": ["gaps", "view"],
+    "answers": ["never_needed", "verdict", "check", "own_unfoldings", "least_steps"],
+    "stores": ["Store", "fits", "chosen", "reason", "store_of"],
 }
 
 
