@@ -72,7 +72,7 @@ def root_state(plan, tree, inner=None):
     """The state of the root of a tree; in a body, the call also has all of an inner state."""
     rows = laid_out(tree)
     below = [[] for _ in rows]
-    for number in reversed(range(1, len(rows))):
+    for number in range(len(rows) - 1, 0, -1):
         node, above, word = rows[number]
         below[above].append((word, _node_state(plan, node, below[number], inner)))
     return _node_state(plan, tree, below[0], inner)

@@ -101,7 +101,7 @@ def _fitting(lookup, tree, called):
     """The nodes that fit a tree of any size; in a body, only those called are taken for the call."""
     rows = laid_out(tree)
     able = [_able_nodes(lookup, row[0], called) for row in rows]
-    for number in reversed(range(1, len(rows))):
+    for number in range(len(rows) - 1, 0, -1):
         _, above, word = rows[number]
         able[above] = [name for name in able[above] if _leads(lookup, name, word, able[number])]
     return able[0]

@@ -9,8 +9,9 @@ from unittest import mock
 from made import CHAIN, MIXED, STEP, WIDE, great_rules, many_rules, mark, under
 from onlyjoins import answers
 from onlyjoins.answers import check, least_steps, never_needed, own_unfoldings, verdict
-from onlyjoins.errors import BadPaper, JoinError, Needed, TooMany
+from onlyjoins.errors import BadPaper, BadStore, BadUnfolding, JoinError, Needed, TooMany
 from onlyjoins.rules import Rules
+from onlyjoins.stores import Store
 from onlyjoins.trees import fits_root
 from onlyjoins.unfold import depth_of, is_unfolding, shorter, tree_of
 from onlyjoins.views import view
@@ -435,6 +436,26 @@ class CheckTest(unittest.TestCase):
             for place in places(paper)[1:]:
                 for thing in wrong:
                     self.assert_bad(names[place[0]], rules, put_in(paper, place, thing))
+
+    def test_what_was_told_in_another_place(self):
+        tree = tree_of(MIXED, (2,) * 43 + (0, 0))
+        for told in [tree, under(tree), (tree,) * 3, ((0,), tree), verdict(LEAPS), view(MIXED, (0, 0)), WIDE, TALL]:
+            self.assertIs(is_unfolding(MIXED, told), False)
+            with self.assertRaises(BadUnfolding) as caught:
+                view(MIXED, told)
+            self.assertIs(caught.exception.value, told)
+            for place in ["nodes", "marked", "edges"]:
+                with self.assertRaises(BadStore) as caught:
+                    Store(**{"nodes": ("a",), place: told})
+                self.assertEqual(caught.exception.place, place)
+            self.assert_bad("own", WIDE, ("never", told, ()))
+            self.assert_bad("own", WIDE, ("never", ((0,), told), ()))
+            self.assert_bad("shorter", WIDE, WIDE_PAPER[:2] + (told,))
+            self.assert_bad("shorter", WIDE, WIDE_PAPER[:2] + ((WIDE_PAPER[2][0], told),))
+            self.assert_bad("shorter", WIDE, WIDE_PAPER[:2] + ((WIDE_PAPER[2][0], ((0, 1), told)),))
+            self.assert_bad("loop", CHAIN, ("needed", told, (0, 0)))
+            self.assert_bad("rest", CHAIN, ("needed", (0,), told))
+        self.assert_bad("form", CHAIN, (tree, (0,), (0, 0)))
 
     def test_a_call_that_raises_changes_nothing(self):
         paper = ["never", [(0,), (1,)], []]
