@@ -40,7 +40,7 @@ class Lookup:
 
 def fits(store, node, tree):
     """Tell whether a node of a store fits a tree of any size."""
-    _need_node(store, node)
+    need_node(store, node)
     return node in _fitting(Lookup(store), tree, ())
 
 
@@ -51,7 +51,7 @@ def chosen(rules, store):
 
 def reason(rules, store, node):
     """An unfolding with the fewest steps whose tree a node fits, None if the node is not chosen."""
-    _need_node(store, node)
+    need_node(store, node)
     return _reasons(rules, store).get(node)
 
 
@@ -70,7 +70,7 @@ def _is_node(nodes, thing):
     return isinstance(thing, str) and thing in nodes
 
 
-def _need_node(store, thing):
+def need_node(store, thing):
     if not _is_node(store.nodes, thing):
         raise BadNumber(thing)
 

@@ -155,3 +155,22 @@ def plain_view(rules, unfolding):
         levels = [level for level in levels if level is not None]
         gains.append(min(max(-1, min(levels) - depth), height) if levels else None)
     return min(depth, height), tuple(sorted(held.marks[0])), tuple(gains)
+
+
+def plain_view_by(rules, tree):
+    """The view by these rules of an unfolding of other ones that has this tree, by the interface's words."""
+    held = of_tree(tree)
+    lot = plain_chosen(rules, held)
+    return tuple(sorted(held.marks[0])), tuple(
+        any(plain_fits(held, node, pattern, lot) for node in held.ends_of(0, word))
+        for word, pattern in plain_gaps(rules))
+
+
+def parts(one, other, unfolding):
+    """Whether the root of an unfolding's tree is not chosen by other rules."""
+    return 0 not in plain_chosen(other, of_tree(all_tree(one, unfolding)))
+
+
+def plain_parting(one, other, most):
+    """The first unfolding of at most so many steps that parts rules from other ones."""
+    return next((row for row in unfoldings(one, most) if parts(one, other, row)), None)

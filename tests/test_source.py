@@ -14,6 +14,10 @@ INTERFACE = {
     "views": ["gaps", "view"],
     "answers": ["never_needed", "verdict", "check", "own_unfoldings", "least_steps"],
     "stores": ["Store", "fits", "chosen", "reason", "store_of"],
+    "compare": ["contained", "parting", "alike", "needless", "joins"],
+    "second": ["never_needed_too"],
+    "bench": ["Bench", "tried"],
+    "texts": ["tree_text", "read_tree", "rules_text", "read_rules"],
 }
 
 
