@@ -7,7 +7,7 @@ import random
 import time
 import unittest
 
-from made import CHAIN, MIXED, STEP, WIDE, Maker, great_rules, many_rules, mark, under
+from made import CHAIN, STEP, WIDE, Maker, great_rules, mark, under
 from onlyjoins.bench import Bench, tried
 from onlyjoins.errors import BadNumber, BadRules, JoinError
 from onlyjoins.rules import Rules

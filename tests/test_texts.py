@@ -29,8 +29,9 @@ KNOWN = [
     ("-(e>!-(e>-,e>-,e>-),e>-)", ((), (("e", ((), (("e", LEAF),) * 3, "call")), ("e", LEAF)))),
 ]
 WRONG = [
-    "", " ", "\n", "--", "+", "a+", "+a", "a++b", "-+a", "a+-", "b+a", "a+a", "a+b+b", "a+b+c+d", "A", "a1", "aB", "a b",
-    "abcdefghi", "a_b", "a ", " a", "a\n", "\na", "-\n", "!", "!-", "!a", "!a(e>-)", "!-(e>!-)", "-(e>!!-)", "-(e>!)",
+    "", " ", "\n", "--", "+", "a+", "+a", "a++b", "-+a", "a+-", "b+a", "a+a", "a+b+b", "a+b+c+d", "A", "a1", "aB",
+    "a b", "abcdefghi", "a_b", "a ", " a", "a\n", "\na", "-\n", "!", "!-", "!a", "!a(e>-)", "!-(e>!-)", "-(e>!!-)",
+    "-(e>!)",
     "-(e>-!)", "-(!e>-)", "-(e!>-)", "-()", "a()", "-(e>-())", "(e>-)", "-(e)", "-(e>)", "-(>-)", "-(>)", "-(e-)",
     "-(e>-", "-e>-)", "-(e>-))", "-((e>-)", "-(e>(-))", "(-)", "()", ")", "(", ",", ">", "-,-", "-(e>-,)", "-(,e>-)",
     "-(e>-,,e>-)", "-(e>-;e>-)", "-(e>-)(e>-)", "-(e>-)-", "-(e>-)a", "a-(e>-)", "-a", "a-", "-(e>-(f>-)", "-(e>>-)",
@@ -38,9 +39,8 @@ WRONG = [
     "-(e>!-,e>!-)", "-(e>!-(e>!-))", "!-(e>-)", "-(e>-,e>-,e>-,e>-)", "-(e>-(e>-(e>-(e>-))))",
     "-(e>-(e>-(e>-(e>!-))))", "-(e>-(e>-,e>-),e>-(e>-,e>-))", "-(e>-(e>-,e>-),e>-(e>-),e>!-)", "-(e>a+b+c+d)",
     "-(e>call)(e>-)", "-( e>-)", "-(e> -)", "-(e>- )", "-(e>-, e>-)", "-\t", "-\r", "\x00", "\u00e9", "-(e>\u0430)",
-    "a+\uff42", "((), ())", "-(-(e>-))", "-(->-)", "-(e+f>-)", "-[e>-]", "-{e>-}", "-<e>-", "call", "end a",
+    "a+\uff42", "((), ())", "-(-(e>-))", "-(->-)", "-(e+f>-)", "-[e>-]", "-{e>-}", "-<e>-", "end a",
 ]
-WRONG.remove("call")
 SIGNS = "abez+-!(),> A1\n"
 
 
@@ -140,8 +140,9 @@ class TreeTextTest(TextCase):
         self.assertGreater(len(seen), 500)
 
     def test_many_each_way(self):
+        kinds = [("ab", "ef"), ("abc", "e"), (["call", "end", "zzzzzzzz"], ["step", "e"])]
         for number in range(300):
-            maker = Maker(number, *[("ab", "ef"), ("abc", "e"), (["call", "end", "zzzzzzzz"], ["step", "e"])][number % 3])
+            maker = Maker(number, *kinds[number % 3])
             for tree in [maker.tree(), maker.body()]:
                 text = tree_text(tree)
                 self.assertEqual(strict(text), tree)
@@ -150,8 +151,8 @@ class TreeTextTest(TextCase):
     def test_what_is_no_tree_and_no_body(self):
         deep = tree_of(CHAIN, (0,) * 131)
         for thing in odd_values() + [CALL, [(), ()], ((), []), ((), (["e", LEAF],)), ((), (("e", CALL),) * 2),
-                                     (("b", "a"), ()), chain(4), chain(149), ((), (("e", LEAF),) * 4), deep, under(deep),
-                                     (deep, deep), ((), (("e", LEAF),) * 6000), "-", "a", CHAIN, tree_text,
+                                     (("b", "a"), ()), chain(4), chain(149), ((), (("e", LEAF),) * 4), deep,
+                                     under(deep), (deep, deep), ((), (("e", LEAF),) * 6000), "-", "a", CHAIN, tree_text,
                                      under(under(under(STEP))), ((), (("E", LEAF),)), (("abcdefghi",), ())]:
             with self.assertRaises(BadTree) as caught:
                 tree_text(thing)
@@ -254,7 +255,8 @@ class RulesTextTest(TextCase):
     def test_many_each_way(self):
         for maker, rules in many_rules(range(300)):
             text = rules_text(rules)
-            lines = ["end " + tree_text(tree) for tree in rules.ends] + ["step " + tree_text(body) for body in rules.steps]
+            lines = ["end " + tree_text(tree) for tree in rules.ends]
+            lines += ["step " + tree_text(body) for body in rules.steps]
             self.assertEqual(text, "\n".join(lines))
             self.assertEqual(read_rules(text), rules)
 
@@ -297,8 +299,9 @@ class RulesTextTest(TextCase):
 
     def test_wrong_lines(self):
         good = ["end a", "end -(e>b)", "step -(e>!-)", "step a(f>!b)"]
-        bad = ["", " ", "end", "step", "end ", "step ", "end  a", " end a", "end a ", "enda", "End a", "END a", "ends a",
-               "end\ta", "end a\r", "a", "-", "-(e>!-)", "end -(e>!-)", "step a", "step -(e>-)", "step  -(e>!-)",
+        bad = ["", " ", "end", "step", "end ", "step ", "end  a", " end a", "end a ", "enda", "End a", "END a",
+               "ends a", "end\ta", "end a\r", "a", "-", "-(e>!-)", "end -(e>!-)", "step a", "step -(e>-)",
+               "step  -(e>!-)",
                "step -(e>!-) ", "stepp -(e>!-)", "end b+a", "end a a", "end end a", "step step -(e>!-)", "end !a",
                "step !a", "step !-(e>!-)", "end -(e>-", "step -(e>!-,e>!-)", "join a", "end a,", "end:a", "end;-",
                "end -(e>-(e>-(e>-(e>-))))", "step -(e>-(e>-(e>-(e>!-))))"]
@@ -351,9 +354,9 @@ class CallsTest(TextCase):
     def test_nothing_hangs_on_what_was_asked_before(self):
         before = copy.deepcopy(vars(MIXED))
         first = [rules_text(MIXED), read_tree("a"), read_rules("end a"), tree_text(STEP)]
-        for call in [lambda: read_tree("A"), lambda: read_rules("end A"), lambda: tree_text(None), lambda: read_tree(0)]:
+        for function, thing in [(read_tree, "A"), (read_rules, "end A"), (tree_text, None), (read_tree, 0)]:
             with self.assertRaises(ValueError):
-                call()
+                function(thing)
         self.assertEqual([rules_text(MIXED), read_tree("a"), read_rules("end a"), tree_text(STEP)], first)
         self.assertEqual(vars(MIXED), before)
 

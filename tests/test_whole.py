@@ -10,10 +10,10 @@ import time
 import unittest
 
 from made import CHAIN, MIXED, STEP, WIDE, Maker, great_rules, mark, under
-from onlyjoins import answers, bench, compare, errors, second, stores, texts, trees, unfold, views
+from onlyjoins import answers, compare, errors, second, stores, texts, trees, unfold, views
 from onlyjoins.bench import Bench, tried
-from onlyjoins.errors import (BadNumber, BadPaper, BadRules, BadStore, BadText, BadTree, BadUnfolding, JoinError, Needed,
-                              TooMany)
+from onlyjoins.errors import (BadNumber, BadPaper, BadRules, BadStore, BadText, BadTree, BadUnfolding, JoinError,
+                              Needed, TooMany)
 from onlyjoins.rules import Rules
 from onlyjoins.stores import Store
 from shapes import CALL, LEAF, chain, odd_values
@@ -50,8 +50,9 @@ def asked(rules, other, store, tree, thing):
     calls = [(trees.is_tree, thing), (trees.is_body, thing), (trees.fits_root, tree, other.ends[0]),
              (unfold.is_unfolding, rules, thing), (unfold.tree_of, rules, one), (unfold.tree_of, rules, thing),
              (unfold.depth_of, rules, thing), (unfold.earliest, rules, tree), (unfold.fewest, rules, tree),
-             (unfold.shorter, rules, one), (unfold.shorter, rules, thing), (views.gaps, rules), (views.view, rules, one),
-             (views.view, rules, thing), (answers.never_needed, rules), (answers.verdict, rules),
+             (unfold.shorter, rules, one), (unfold.shorter, rules, thing), (views.gaps, rules),
+             (views.view, rules, one), (views.view, rules, thing), (answers.never_needed, rules),
+             (answers.verdict, rules),
              (answers.check, rules, thing), (answers.own_unfoldings, rules), (answers.least_steps, rules),
              (stores.fits, store, "n", tree), (stores.fits, store, thing, tree), (stores.chosen, rules, store),
              (stores.reason, rules, store, "n"), (stores.reason, rules, store, thing), (stores.store_of, tree),
@@ -98,12 +99,13 @@ def great_things():
     tree = unfold.tree_of(tall, one)
     wide = unfold.tree_of(great_rules(), (0, 1) * 43 + (1,))
     things = [one, tree, wide, views.view(great_rules(), (0, 1) * 43 + (1,)), views.gaps(great_rules()),
-              answers.verdict(WIDE), answers.verdict(CHAIN), answers.own_unfoldings(WIDE), texts.rules_text(great_rules())]
+              answers.verdict(WIDE), answers.verdict(CHAIN), answers.own_unfoldings(WIDE),
+              texts.rules_text(great_rules())]
     for bottom in [None, True, "call", [], CALL, ROW, CHAIN]:
         things.append(chain(129, bottom=bottom))
         things.append((tree, bottom))
         things.append(under(tree)[:1] + ((("e", bottom), ("e", wide)),))
-    things += [(0,) * 30000, ((),) * 29999, tuple([(0,)] * 14999), [[0]] * 14000, {number: () for number in range(9999)}]
+    things += [(0,) * 30000, ((),) * 29999, ((0,),) * 14999, [[0]] * 14000, {number: () for number in range(9999)}]
     deep = ()
     for number in range(440):
         deep = (deep,) if number % 2 else [deep]
@@ -125,7 +127,8 @@ class InterfaceTest(unittest.TestCase):
                 self.assertEqual(len(told), len(inspect.signature(found).parameters), name)
 
     def test_parameters_in_any_order(self):
-        for order in itertools.permutations([("nodes", ("a",)), ("marked", [("a", "x")]), ("edges", [("a", "e", "a")])]):
+        rows = [("nodes", ("a",)), ("marked", [("a", "x")]), ("edges", [("a", "e", "a")])]
+        for order in itertools.permutations(rows):
             self.assertEqual(Store(**dict(order)), Store(("a",), [("a", "x")], [("a", "e", "a")]))
         for order in itertools.permutations([("node", "n"), ("word", "f"), ("other", "p")]):
             held = Bench(CHAIN, ROW)
@@ -219,7 +222,8 @@ class WholeTest(unittest.TestCase):
                       stores.fits(ROW, "n", LEAF), compare.contained(CHAIN, WIDE), compare.contained(WIDE, CHAIN),
                       compare.alike(CHAIN, WIDE), compare.alike(CHAIN, CHAIN), second.never_needed_too(WIDE, 1),
                       second.never_needed_too(CHAIN, 1), second.never_needed_too(Rules([LEAF]), 6), CHAIN == WIDE,
-                      CHAIN != WIDE, ROW == ROW, ROW != 1, Bench(CHAIN, ROW) == Bench(CHAIN, ROW), Bench(CHAIN, ROW) != 1]:
+                      CHAIN != WIDE, ROW == ROW, ROW != 1, Bench(CHAIN, ROW) == Bench(CHAIN, ROW),
+                      Bench(CHAIN, ROW) != 1]:
             self.assertIsInstance(value, bool)
         for value in views.view(WIDE, (0,))[2]:
             self.assertTrue(value is None or isinstance(value, (bool, int)))
